@@ -1,0 +1,1 @@
+"""Tailpick: when choosing jobs from the end is best."""
