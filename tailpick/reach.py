@@ -1,14 +1,6 @@
 """How far one gets with some rules, job after job."""
 
-
-def lies_in(inner, outer):
-    """Return True if all jobs of the first set are in the second one."""
-    return all([job in outer for job in inner])
-
-
-def with_job(wanted, job):
-    """Return the set with one job more."""
-    return tuple(sorted([*wanted, job]))
+from tailpick.jobsets import lies_in, with_job
 
 
 def needs_met(needs, job, done):
@@ -42,11 +34,28 @@ def next_sets(jobs, needs, limits, reached):
     })
 
 
-def longest_reached(jobs, needs, limits):
-    """Return the first of the longest sets that can be reached."""
-    longest = ()
-    level = [longest]
+def reached_levels(jobs, needs, limits):
+    """Return the sets that can be reached, as one list in order for each length from 0 on."""
+    levels = []
+    level = [()]
     while level:
-        longest = level[0]
+        levels.append(level)
         level = next_sets(jobs, needs, limits, level)
-    return longest
+    return levels
+
+
+def goes_on(jobs, done, beyond):
+    """Return True if one job more makes the set one of those beyond it."""
+    return any([with_job(done, job) in beyond for job in jobs if job not in done])
+
+
+def leading_on(jobs, levels):
+    """Return, in order, those sets of the levels from which one gets to the last level."""
+    # If a set can be reached with a job and without it, the job can follow: its needs were met
+    # when the set with it was reached, and then no other jobs than these were done.
+    beyond = levels[-1]
+    found = list(beyond)
+    for level in reversed(levels[:-1]):
+        beyond = [done for done in level if goes_on(jobs, done, beyond)]
+        found = [*beyond, *found]
+    return found

@@ -1,21 +1,15 @@
 """Books of rules: jobs, what each of them needs, and what it must not be later than."""
 
-from tailpick.checks import is_number, is_set_of
-from tailpick.errors import BadCount, BadName, BadNumber, BadSet, DuplicateName, NoOrder, UnknownName
+from tailpick.checks import check_count, is_number, is_set_of
+from tailpick.errors import BadName, BadNumber, BadSet, DuplicateName, NoOrder, UnknownName
 from tailpick.naming import valid_name
-from tailpick.reach import longest_reached
+from tailpick.reach import leading_on, reached_levels
 from tailpick.wording import read_parts, written_parts
 
 MOST_JOBS = 6
 MOST_NEEDS = 12
 MOST_LIMITS = 12
 MOST_ALTERNATIVES = 6
-
-
-def check_count(count, least, most):
-    """Raise BadCount if there are too few or too many."""
-    if not least <= count <= most:
-        raise BadCount(count)
 
 
 def check_jobs(jobs):
@@ -60,11 +54,12 @@ def check_limits(jobs, limits):
         check_others(jobs, job, value)
 
 
-def check_order(jobs, needs, limits):
-    """Raise NoOrder if no order is allowed."""
-    longest = longest_reached(jobs, needs, limits)
-    if len(longest) < len(jobs):
-        raise NoOrder(longest)
+def find_allowed(jobs, needs, limits):
+    """Return the list of the allowed sets in order. Raise NoOrder if no order is allowed."""
+    levels = reached_levels(jobs, needs, limits)
+    if len(levels) <= len(jobs):
+        raise NoOrder(levels[-1][0])
+    return leading_on(jobs, levels)
 
 
 def left_out(items, number):
@@ -81,7 +76,8 @@ class Rules:
         check_jobs(jobs)
         check_needs(jobs, needs)
         check_limits(jobs, limits)
-        check_order(jobs, needs, limits)
+        # All that is asked about rules later on is asked of these sets.
+        self._allowed = tuple(find_allowed(jobs, needs, limits))
         self._jobs = tuple(sorted(jobs))
         self._needs = tuple([(job, tuple(alternatives)) for job, alternatives in needs])
         self._limits = tuple([(job, wanted) for job, wanted in limits])
@@ -106,6 +102,11 @@ class Rules:
     def limits(self):
         """The tuple of the limits, each a tuple of the job and the set."""
         return self._limits
+
+    @property
+    def allowed(self):
+        """The tuple of the allowed sets in order."""
+        return self._allowed
 
     def __eq__(self, other):
         return (isinstance(other, Rules) and self._jobs == other._jobs

@@ -1,11 +1,15 @@
 """Some rules of the language that the package is written in: files, sizes, characters and imports."""
 
 import ast
+import builtins
 import pathlib
 import unittest
 
 PACKAGE = pathlib.Path(__file__).resolve().parent.parent / "tailpick"
 FILES = sorted(path for path in PACKAGE.rglob("*.py"))
+# L8, without what other rules take away or bind to certain files.
+BUILTINS = """len range enumerate zip min max sum abs sorted reversed int str bool list tuple dict set isinstance
+    ord repr any all divmod ValueError property classmethod staticmethod NotImplemented""".split()
 LIBRARY = ["heapq", "math", "itertools", "collections", "__future__"]
 
 
@@ -53,6 +57,35 @@ class LanguageTest(unittest.TestCase):
         for path, tree in trees():
             for node in tree.body:
                 self.assertTrue(isinstance(node, plain) or is_docstring(node), (path, node.lineno))
+
+    def test_l7_no_generator_expressions_and_no_true_division(self):
+        for path, tree in trees():
+            for node in ast.walk(tree):
+                self.assertNotIsInstance(node, (ast.GeneratorExp, ast.Div), path)
+                self.assertFalse(isinstance(node, ast.Constant) and isinstance(node.value, (float, complex)), path)
+
+    def test_l8_l15_builtins(self):
+        for path, tree in trees():
+            for node in ast.walk(tree):
+                if isinstance(node, ast.Name) and hasattr(builtins, node.id):
+                    self.assertIn(node.id, BUILTINS, (path, node.lineno))
+                    self.assertIsInstance(node.ctx, ast.Load, (path, node.lineno))
+                if isinstance(node, ast.arg):
+                    self.assertFalse(hasattr(builtins, node.arg), (path, node.lineno))
+
+    def test_l19_no_errors_of_python_are_caught(self):
+        for path, tree in trees():
+            for node in ast.walk(tree):
+                if isinstance(node, ast.ExceptHandler):
+                    self.assertFalse(hasattr(builtins, ast.unparse(node.type)), (path, node.lineno))
+
+    def test_l28_str_returns_texts(self):
+        for path, tree in trees():
+            for node in ast.walk(tree):
+                if isinstance(node, ast.FunctionDef) and node.name in ["__str__", "__repr__"]:
+                    for line in ast.walk(node):
+                        if isinstance(line, ast.Return):
+                            self.assertIsInstance(line.value, (ast.Constant, ast.JoinedStr, ast.Call), path)
 
     def test_l27_strings(self):
         for path, tree in trees():

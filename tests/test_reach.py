@@ -6,22 +6,8 @@ import unittest
 
 from tailpick.errors import NoOrder
 from tailpick.rules import Rules
+from tests.brute import NAMES, keeps, some_rules
 from tests.helpers import ErrorCase
-
-NAMES = ["a", "b", "c", "d", "e", "f"]
-
-
-def keeps(done_in_order, needs, limits):
-    """Whether doing just these jobs in this order keeps all rules at each moment."""
-    for count, job in enumerate(done_in_order):
-        before, after = set(done_in_order[:count]), set(done_in_order[:count + 1])
-        for needing, alternatives in needs:
-            if needing == job and not any(set(wanted) <= before for wanted in alternatives):
-                return False
-        for limited, wanted in limits:
-            if set(wanted) <= after and limited not in after:
-                return False
-    return True
 
 
 def farthest(jobs, needs, limits):
@@ -31,22 +17,6 @@ def farthest(jobs, needs, limits):
             if any(keeps(order, needs, limits) for order in itertools.permutations(wanted)):
                 return wanted
     return None
-
-
-def some_set(source, others, least):
-    return tuple(sorted(source.sample(others, source.randint(least, min(3, len(others))))))
-
-
-def some_rules(source, count):
-    jobs = source.sample(NAMES, count)
-    needs, limits = [], []
-    for _ in range(source.randint(0, count + 1)):
-        job = source.choice(jobs)
-        others = [name for name in jobs if name != job]
-        needs.append((job, [some_set(source, others, min(1, len(others))) for _ in range(source.randint(1, 2))]))
-        if source.random() < 0.6:
-            limits.append((job, some_set(source, others, 1)))
-    return jobs, needs, limits
 
 
 class ReachTest(ErrorCase):

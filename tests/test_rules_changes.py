@@ -1,9 +1,11 @@
-"""Points 2, 10, 11 and 17: rules with one need or limit more or less."""
+"""Points 2, 5, 10, 11 and 17: rules with one need or limit more or less."""
 
 import unittest
 
 from tailpick.errors import BadCount, BadNumber, BadSet, NoOrder, UnknownName
+from tailpick.orders import allowed_orders
 from tailpick.rules import Rules
+from tests.brute import keeps, orders_of, sets_of, some_books
 from tests.helpers import ODD_VALUES, ErrorCase
 
 TEXT = "a b c; b: a; c: a | b; a > b; b > c"
@@ -98,6 +100,38 @@ class LessTest(ErrorCase):
     def test_example(self):
         rules = Rules(["c", "a", "b"], [("c", [("a", "b"), ()])], [("a", ("b", "c"))])
         self.assertEqual(str(rules.without_need(0)), "a b c; a > b c")
+
+
+class OrdersTest(ErrorCase):
+
+    def test_p5_p17_one_need_or_limit_more_leaves_just_the_orders_that_keep_it(self):
+        for rules in some_books(17, 40, (2, 3, 4)):
+            job, *others = rules.jobs
+            for wanted in sets_of(others):
+                need = (job, [wanted, tuple(others[:1])])
+                self.assert_left(rules, rules.with_need, need, [need], [])
+                if wanted:
+                    self.assert_left(rules, rules.with_limit, (job, wanted), [], [(job, wanted)])
+
+    def assert_left(self, rules, call, arguments, needs, limits):
+        left = [order for order in allowed_orders(rules) if keeps(order, needs, limits)]
+        if left:
+            self.assertEqual(list(allowed_orders(call(*arguments))), left)
+        else:
+            with self.assertRaises(NoOrder):
+                call(*arguments)
+
+    def test_p5_p17_one_need_or_limit_less(self):
+        more = 0
+        for rules in some_books(18, 100):
+            less = [rules.without_need(number) for number in range(len(rules.needs))]
+            less += [rules.without_limit(number) for number in range(len(rules.limits))]
+            for other in less:
+                orders = list(allowed_orders(other))
+                self.assertEqual(orders, orders_of(other))
+                self.assertLessEqual(set(allowed_orders(rules)), set(orders))
+                more += len(orders) > len(list(allowed_orders(rules)))
+        self.assertGreater(more, 30)
 
 
 if __name__ == "__main__":
