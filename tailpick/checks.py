@@ -3,10 +3,15 @@
 from tailpick.errors import BadCount, BadNumber, BadOrder, BadSet
 
 
+def is_integer(value):
+    """Return True if the value, which may be any value, is an integer."""
+    # True and False are integers to Python, but not here.
+    return isinstance(value, int) and not isinstance(value, bool)
+
+
 def is_number(value):
     """Return True if the value, which may be any value, is an integer from 0 on."""
-    # True and False are integers to Python, but not here.
-    return isinstance(value, int) and not isinstance(value, bool) and value >= 0
+    return is_integer(value) and value >= 0
 
 
 def only_jobs(jobs, value):

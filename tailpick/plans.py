@@ -23,6 +23,11 @@ def check_durations(jobs, durations):
             raise BadNumber(duration)
 
 
+def total(durations, wanted):
+    """Return the sum of the durations of some jobs."""
+    return sum([durations[job] for job in wanted])
+
+
 class Plan:
     """Rules with a duration and a cost for each job. It never changes."""
 
@@ -54,7 +59,7 @@ class Plan:
     def whole(self, wanted):
         """Return the sum of the durations of the jobs of a set."""
         check_set_of(self._rules.jobs, wanted)
-        return sum([self._durations[job] for job in wanted])
+        return total(self._durations, wanted)
 
     def ends(self, order):
         """Return the dict with the time at which each job ends in an order, allowed or not."""

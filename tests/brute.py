@@ -1,9 +1,12 @@
 """The words of the document once more, by trying out all orders; and rules to try them with."""
 
+import functools
 import itertools
 import random
 
+from tailpick.costs import Cost
 from tailpick.errors import NoOrder
+from tailpick.plans import Plan
 from tailpick.rules import Rules
 
 NAMES = ["a", "b", "c", "d", "e", "f"]
@@ -22,9 +25,14 @@ def keeps(done_in_order, needs, limits):
     return True
 
 
+@functools.cache
+def orders_by(jobs, needs, limits):
+    return [order for order in itertools.permutations(jobs) if keeps(order, needs, limits)]
+
+
 def orders_of(rules):
     """All allowed orders in ascending order."""
-    return [order for order in itertools.permutations(rules.jobs) if keeps(order, rules.needs, rules.limits)]
+    return list(orders_by(rules.jobs, rules.needs, rules.limits))
 
 
 def beginnings_of(order):
@@ -40,9 +48,14 @@ def sets_of(jobs):
     return [wanted for count in range(len(jobs) + 1) for wanted in itertools.combinations(sorted(jobs), count)]
 
 
+@functools.cache
+def allowed_by(jobs, needs, limits):
+    return in_order(done for order in orders_by(jobs, needs, limits) for done in beginnings_of(order))
+
+
 def allowed_of(rules):
     """All allowed sets in order."""
-    return in_order(done for order in orders_of(rules) for done in beginnings_of(order))
+    return list(allowed_by(rules.jobs, rules.needs, rules.limits))
 
 
 def ways_of(rules):
@@ -83,6 +96,32 @@ def cost_of(steps, time):
         if start <= time:
             cost = now
     return cost
+
+
+def whole_of(plan, wanted):
+    return sum(plan.durations()[job] for job in wanted)
+
+
+def last_costs(plan, wanted):
+    """What each last job of an allowed set costs as the last one of it, as a list of (cost, job)."""
+    allowed, time = allowed_of(plan.rules), whole_of(plan, wanted)
+    return [
+        (cost_of(plan.costs()[job].steps, time), job) for job in wanted if without(wanted, job) in allowed
+    ]
+
+
+def tail_of(plan):
+    """The tail order: from the end, the least cost first, and then the first name."""
+    order, left = [], plan.rules.jobs
+    while left:
+        order.append(min(last_costs(plan, left))[1])
+        left = without(left, order[-1])
+    return tuple(reversed(order))
+
+
+def best_of(plan):
+    """The smallest worth of an allowed order."""
+    return min(worth_of(order, plan.durations(), plan.costs()) for order in orders_of(plan.rules))
 
 
 def some_set(source, others, least):
@@ -132,3 +171,13 @@ def some_steps(source, most, latest):
     """The steps of some cost."""
     times = sorted(source.sample(range(latest + 1), source.randint(0, most)))
     return [(time, cost) for time, cost in zip(times, sorted(source.sample(range(1, most + 3), len(times))))]
+
+
+def some_plans(seed, books):
+    """A plan for each of the books, with small durations; often some orders are equally good."""
+    source = random.Random(seed)
+    return [
+        Plan(rules, {job: source.randint(0, 4) for job in rules.jobs},
+             {job: Cost(some_steps(source, 4, 14)) for job in rules.jobs})
+        for rules in books
+    ]

@@ -1,7 +1,6 @@
 """Points 2, 8, 10, 11 and 35 to 39: plans, their worths and their best orders."""
 
 import itertools
-import random
 import unittest
 
 from tailpick import plans
@@ -9,9 +8,8 @@ from tailpick.costs import Cost
 from tailpick.errors import BadNumber, BadOrder, BadSet, NotAllowed, UnlikeJobs
 from tailpick.plans import Plan, best_order, best_worth
 from tailpick.rules import Rules
-from tests.brute import (
-    allowed_of, beginnings_of, orders_of, sets_of, some_books, some_steps, worth_of)
-from tests.helpers import ODD_VALUES, ErrorCase
+from tests.brute import allowed_of, beginnings_of, orders_of, sets_of, some_books, some_plans, worth_of
+from tests.helpers import ODD_VALUES, ErrorCase, example_plan
 
 RULES = Rules.read("a b c; c: a")
 DURATIONS = {"a": 2, "b": 3, "c": 1}
@@ -19,21 +17,7 @@ COSTS = {"a": Cost([(6, 9)]), "b": Cost([(4, 2)]), "c": Cost([(3, 1), (6, 4)])}
 FREE = {name: Cost([]) for name in "abc"}
 
 
-def example():
-    return Plan(RULES, DURATIONS, COSTS)
-
-
-def some_plans(seed, number):
-    """Plans with some rules and small durations; often some orders are equally good."""
-    source = random.Random(seed)
-    return [
-        Plan(rules, {job: source.randint(0, 4) for job in rules.jobs},
-             {job: Cost(some_steps(source, 4, 14)) for job in rules.jobs})
-        for rules in some_books(seed, number)
-    ]
-
-
-PLANS = some_plans(35, 250)
+PLANS = some_plans(35, some_books(35, 250))
 
 
 class ConstructorTest(ErrorCase):
@@ -75,19 +59,19 @@ class ConstructorTest(ErrorCase):
         durations["a"] = 7
         durations["d"] = 1
         costs.clear()
-        self.assertEqual(plan, example())
+        self.assertEqual(plan, example_plan())
         self.assertEqual((plan.durations(), plan.costs()), (DURATIONS, COSTS))
 
     def test_p10_p36_dicts_that_are_returned_are_new(self):
-        plan = example()
+        plan = example_plan()
         plan.durations().clear()
         plan.costs()["a"] = Cost([])
         plan.ends(("a", "b", "c")).clear()
-        self.assertEqual(plan, example())
+        self.assertEqual(plan, example_plan())
         self.assertEqual(plan.ends(("a", "b", "c")), {"a": 2, "b": 5, "c": 6})
 
     def test_p36_the_parts(self):
-        plan = example()
+        plan = example_plan()
         self.assertIs(type(plan.rules), Rules)
         self.assertEqual(plan.rules, RULES)
         self.assertIs(type(plan.durations()), dict)
@@ -98,7 +82,7 @@ class ConstructorTest(ErrorCase):
 
     def test_p10_by_name(self):
         plan = Plan(costs=COSTS, durations=DURATIONS, rules=RULES)
-        self.assertEqual(plan, example())
+        self.assertEqual(plan, example_plan())
         self.assertEqual(plan.whole(wanted=("a", "c")), 3)
         self.assertEqual(plan.ends(order=("a", "c", "b"))["b"], 6)
         self.assertEqual(plan.worth(order=("a", "c", "b")), 2)
@@ -110,9 +94,9 @@ class EqualityTest(unittest.TestCase):
     def test_p36_equal(self):
         backwards = [{job: table[job] for job in "cba"} for table in [DURATIONS, COSTS]]
         copied = {job: Cost(cost.steps) for job, cost in COSTS.items()}
-        self.assertTrue(example() == Plan(Rules.read("a b c; c: a"), *backwards))
-        self.assertTrue(example() == Plan(RULES, DURATIONS, copied))
-        self.assertFalse(example() != example())
+        self.assertTrue(example_plan() == Plan(Rules.read("a b c; c: a"), *backwards))
+        self.assertTrue(example_plan() == Plan(RULES, DURATIONS, copied))
+        self.assertFalse(example_plan() != example_plan())
 
     def test_p36_unlike(self):
         for other in [
@@ -120,26 +104,26 @@ class EqualityTest(unittest.TestCase):
             Plan(RULES, DURATIONS, {**COSTS, "b": Cost([(4, 3)])}), Plan(Rules.read("a b c; c: a; c: a"), DURATIONS, COSTS),
             Plan(Rules.read("a"), {"a": 2}, {"a": COSTS["a"]}),
         ]:
-            self.assertFalse(example() == other)
-            self.assertTrue(example() != other)
+            self.assertFalse(example_plan() == other)
+            self.assertTrue(example_plan() != other)
 
     def test_p10_not_equal_to_values_of_other_kinds(self):
         for value in [*ODD_VALUES, RULES, DURATIONS, COSTS, (RULES, DURATIONS, COSTS), COSTS["a"]]:
-            self.assertFalse(example() == value)
-            self.assertFalse(value == example())
-            self.assertTrue(example() != value)
+            self.assertFalse(example_plan() == value)
+            self.assertFalse(value == example_plan())
+            self.assertTrue(example_plan() != value)
 
 
 class TimesTest(ErrorCase):
 
     def test_example(self):
-        plan = example()
+        plan = example_plan()
         self.assertEqual(
             [plan.whole(("a", "c")), plan.ends(("a", "c", "b")), plan.worth(("a", "c", "b"))],
             [3, {"a": 2, "c": 3, "b": 6}, 2])
 
     def test_p36_whole_of_each_set(self):
-        plan = example()
+        plan = example_plan()
         for wanted in sets_of("abc"):
             self.assertEqual(plan.whole(wanted), sum(DURATIONS[job] for job in wanted))
         # A set need not be allowed.
@@ -147,13 +131,13 @@ class TimesTest(ErrorCase):
 
     def test_p2_p36_values_that_are_no_sets_of_the_jobs(self):
         for value in [*ODD_VALUES, ["a", "b"], ("b", "a"), ("a", "d"), ("a", "b", "c", "d"), "abc"]:
-            error = self.assert_error(BadSet, {"value": value}, example().whole, value)
+            error = self.assert_error(BadSet, {"value": value}, example_plan().whole, value)
             self.assertIs(error.value, value)
 
     def test_p8_p37_ends(self):
         for order in itertools.permutations("abc"):
             wanted = {job: sum(DURATIONS[name] for name in order[:at + 1]) for at, job in enumerate(order)}
-            found = example().ends(order)
+            found = example_plan().ends(order)
             self.assertEqual(found, wanted)
             self.assertEqual(list(found), list(order))
         nothing = Plan(RULES, {"a": 0, "b": 0, "c": 0}, COSTS)
@@ -165,7 +149,7 @@ class TimesTest(ErrorCase):
         wrong = [*ODD_VALUES, (), ("a", "b"), ["a", "b", "c"], ("a", "b", "c", "a"), ("a", "b", "d"), ("a", "b", "b"),
                  ("a", "b", None), ("a", "b", ["c"]), "abc", {"a": 1, "b": 2, "c": 3}]
         for value in wrong:
-            for call in [example().ends, example().worth]:
+            for call in [example_plan().ends, example_plan().worth]:
                 error = self.assert_error(BadOrder, {"value": value}, call, value)
                 self.assertIs(error.value, value)
 
@@ -185,8 +169,8 @@ class WorthTest(ErrorCase):
         self.assertEqual(Plan(rules, {"a": 2, "b": 2}, plan.costs()).worth(("a", "b")), 0)
 
     def test_p38_orders_that_are_not_allowed(self):
-        self.assert_error(NotAllowed, {"value": ("c",)}, example().worth, ("c", "a", "b"))
-        self.assert_error(NotAllowed, {"value": ("b", "c")}, example().worth, ("b", "c", "a"))
+        self.assert_error(NotAllowed, {"value": ("c",)}, example_plan().worth, ("c", "a", "b"))
+        self.assert_error(NotAllowed, {"value": ("b", "c")}, example_plan().worth, ("b", "c", "a"))
         # The beginning that leads nowhere counts, even if all rules have been kept up to it.
         plan = Plan(Rules.read("a b c; b: a; b > a c"), DURATIONS, COSTS)
         self.assert_error(NotAllowed, {"value": ("c",)}, plan.worth, ("c", "a", "b"))
@@ -203,7 +187,7 @@ class WorthTest(ErrorCase):
 class BestTest(unittest.TestCase):
 
     def test_example(self):
-        self.assertEqual([best_worth(example()), best_order(example())], [2, ("a", "c", "b")])
+        self.assertEqual([best_worth(example_plan()), best_order(example_plan())], [2, ("a", "c", "b")])
 
     def test_p39_against_all_orders(self):
         shared = 0
@@ -244,11 +228,11 @@ class BestTest(unittest.TestCase):
         self.assertEqual((best_worth(plan), best_order(plan)), (0, tuple("fedcba")))
 
     def test_p10_plans_stay_as_they_are(self):
-        plan = example()
+        plan = example_plan()
         best_order(plan)
         best_worth(plan)
         plan.worth(("a", "c", "b"))
-        self.assertEqual(plan, example())
+        self.assertEqual(plan, example_plan())
 
 
 class InterfaceTest(unittest.TestCase):
