@@ -52,6 +52,25 @@ class LanguageTest(unittest.TestCase):
                     for alias in node.names:
                         self.assertIn(alias.name, defined[node.module], path)
 
+    def test_l16_no_circles_of_imports(self):
+        left = {f"tailpick.{path.stem}": {
+            node.module for node in tree.body if isinstance(node, ast.ImportFrom)} for path, tree in trees()}
+        while left:
+            free = [module for module, wanted in left.items() if not wanted & set(left)]
+            self.assertTrue(free, sorted(left))
+            for module in free:
+                del left[module]
+
+    def test_l15_no_variable_is_called_like_a_class_or_an_import_of_its_file(self):
+        for path, tree in trees():
+            taken = {alias.name for node in tree.body if isinstance(node, ast.ImportFrom) for alias in node.names}
+            taken |= {node.name for node in tree.body if isinstance(node, ast.ClassDef)}
+            for node in ast.walk(tree):
+                if isinstance(node, ast.arg):
+                    self.assertNotIn(node.arg, taken, (path, node.lineno))
+                if isinstance(node, ast.Name) and not isinstance(node.ctx, ast.Load):
+                    self.assertNotIn(node.id, taken, (path, node.lineno))
+
     def test_l3_nothing_is_executed_at_module_level(self):
         plain = (ast.FunctionDef, ast.ClassDef, ast.ImportFrom, ast.Assign)
         for path, tree in trees():
